@@ -44,10 +44,11 @@ func TestWrapNextSize(t *testing.T) {
 			if e != api.OK || size != len(f) || !bytes.Equal(back, p) {
 				t.Fatalf("%d bytes: Next: %d, %d", n, size, e)
 			}
-			back = append(back, 1, 2, 3)
 			for i := range back {
 				back[i]++
 			}
+			back = append(back, 1, 2, 3)
+			back[0]++
 			if !bytes.Equal(b, slices.Concat(f, tail)) {
 				t.Fatal("Next shares its bytes")
 			}
@@ -136,8 +137,8 @@ func TestScanSharesNothing(t *testing.T) {
 	old := bytes.Clone(b)
 	l, _, _ := frame.Scan(b)
 	for i := range l {
-		l[i] = append(l[i], 9, 9, 9, 9, 9, 9)
 		l[i][0] = 77
+		l[i] = append(l[i], 9, 9, 9, 9, 9, 9)
 	}
 	if !bytes.Equal(b, old) || l[1][1] != 4 || l[2][1] != 9 {
 		t.Errorf("%v, %v", b, l)

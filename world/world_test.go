@@ -356,6 +356,23 @@ func TestCalmNeedsNoCrash(t *testing.T) {
 	}
 }
 
+// TestSpoiltDisk: what somebody else wrote upon a disk lets it not be opened anew; all goes on without a panic.
+func TestSpoiltDisk(t *testing.T) {
+	for who := range 4 {
+		w := made(t, 1<<14)
+		do(t, w, commit(0, api.Clock{}, 1), script.Item{Do: script.Sync}, script.Item{Do: script.Tick})
+		_ = w.Disk(who).Append(0, []byte{128, 0, 0, 0, 0})
+		_ = w.Disk(who).Sync(0)
+		if e := w.Do(script.Item{Do: script.Crash, Who: who}); e != api.ErrSum || w.Origin(min(who, 2)) == nil || w.Sink() == nil || len(w.Committed(0)) != 1 {
+			t.Errorf("%d: %d", who, e)
+		}
+		for range 2 {
+			_ = w.Run([]script.Item{commit(0, api.Clock{}, 1), commit(1, api.Clock{}, 1), commit(2, api.Clock{}, 1), {Do: script.Sync, Who: min(who, 2)}, {Do: script.Tick, Who: who}, {Do: script.Tick, Who: 3}, {Do: script.Deliver}, {Do: script.Deliver}, {Do: script.Fuse, Who: who}, {Do: script.Crash, Who: who}})
+			_ = w.Calm(5)
+		}
+	}
+}
+
 // twin is the document's words, by the layers below.
 type twin struct {
 	disks   [4]*disk.Disk
