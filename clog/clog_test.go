@@ -727,3 +727,23 @@ func TestRangeTrimEdges(t *testing.T) {
 		t.Errorf("%d, %d", e, l.Base())
 	}
 }
+
+func TestSharesNothing(t *testing.T) {
+	l, _ := filled(t, 1<<16, 7)
+	files, marks := l.Files(), l.Marks()
+	wantFiles, wantMarks := slices.Clone(files), slices.Clone(marks)
+	files[0] = 9
+	marks[1] = mark.Mark{}
+	got, _ := l.Range(1, 7)
+	got[2].Writes[0].Key = "changed"
+	got[3] = api.Txn{}
+	if !slices.Equal(l.Files(), wantFiles) || !slices.Equal(l.Marks(), wantMarks) {
+		t.Errorf("%v, %v", l.Files(), l.Marks())
+	}
+	again, _ := l.Range(1, 7)
+	for i, x := range again {
+		if !txn.Same(x, one(0, int64(i)+1)) {
+			t.Errorf("%v", x)
+		}
+	}
+}
